@@ -1,0 +1,42 @@
+"""The interface: names, arguments and the files in which they are defined."""
+
+import importlib
+import inspect
+import os
+import unittest
+
+# For each file its functions with their arguments, as the interface lists them.
+INTERFACE = {
+    "ranges": "is_set(value) contains(a,number) is_within(a,b) set_of(pairs) both(a,b) either(a,b) without(a,b)"
+              " outside(a,top) members(a) ends_of(sets,top) write_set(a) read_set(text)",
+    "prefixes": "is_prefix(value) is_exchange(value) held(prefix) exchanged_set(exchange,a) cover(a)"
+                " longest(prefixes,address) exchanged(exchange,address)",
+    "sums": "folded(words) sum_of(row) mended(check,old,new)",
+    "packets": "is_packet(value) length_of(packet) write_packet(packet) read_packet(row)",
+    "views": "is_sight(value) is_history(value) sight_of(interface,packet) packet_of(sight)",
+}
+
+
+class Interface(unittest.TestCase):
+    def test_functions(self):
+        for name, listed in INTERFACE.items():
+            module = importlib.import_module(f"gatewarden.{name}")
+            for entry in listed.split():
+                function_name, arguments = entry[:-1].split("(")
+                function = getattr(module, function_name)
+                self.assertTrue(inspect.isfunction(function), entry)
+                self.assertEqual(function.__module__, module.__name__, entry)
+                found = ",".join(inspect.signature(function).parameters)
+                self.assertEqual(found, arguments, entry)
+
+    def test_package_is_one_folder_at_the_top(self):
+        import gatewarden
+        here = os.path.dirname(os.path.dirname(os.path.abspath(__file__)))
+        self.assertEqual(os.path.dirname(os.path.abspath(gatewarden.__file__)), os.path.join(here, "gatewarden"))
+        for name in os.listdir(os.path.join(here, "gatewarden")):
+            self.assertTrue(name.endswith(".py") or name == "__pycache__", name)
+            self.assertFalse(name.startswith("test"), name)
+
+
+if __name__ == "__main__":
+    unittest.main()
