@@ -14,6 +14,15 @@ INTERFACE = {
     "sums": "folded(words) sum_of(row) mended(check,old,new)",
     "packets": "is_packet(value) length_of(packet) write_packet(packet) read_packet(row)",
     "views": "is_sight(value) is_history(value) sight_of(interface,packet) packet_of(sight)",
+    "talks": "key_of(sight) sender_of(sight) side_of(state,sender) talk_code(kind,state,sender,flags)"
+             " moved(kind,state,sender,flags) view_of(sight,state)",
+    "books": "is_book(value) rule_places(book) without_rule(book,place) with_rule(book,place,rule)"
+             " with_default(book,word,default)",
+    "walking": "walk(book,view) decide(book,view)",
+    "boxes": "is_box(value) in_box(box,view) whole_box() box_of(view)",
+    "cuts": "settled(book,box) cut_tree(book,box) check_cuts(book,box,value) count_views(book,box,decision)",
+    "plans": "plan_of(book) tidied(plan) joined_plans(first,second,pairs) narrowed(plan,field,low,high)"
+             " is_plan(value) led(plan,view) counted(plan,decision) differing(first,second)",
 }
 
 

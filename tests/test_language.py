@@ -71,6 +71,14 @@ def local_names(function):
             yield node.name
 
 
+def own_methods():
+    """The methods that the classes of the package define."""
+    return {
+        part.name for name, text, tree in sources() for node in tree.body if isinstance(node, ast.ClassDef)
+        for part in node.body if isinstance(part, ast.FunctionDef)
+    }
+
+
 def module_names(tree):
     """The names bound at module level, each as often as it is bound."""
     for node in tree.body:
@@ -212,6 +220,7 @@ class Trees(unittest.TestCase):
                 self.assertIn(read, known, name)
 
     def test_expressions(self):
+        known = METHODS | own_methods()
         for name, text, tree in sources():
             for node in ast.walk(tree):
                 where = (name, getattr(node, "lineno", 0))
@@ -225,7 +234,7 @@ class Trees(unittest.TestCase):
                 if isinstance(node, ast.Call):
                     self.assertIsInstance(node.func, (ast.Name, ast.Attribute), where)
                     if isinstance(node.func, ast.Attribute):
-                        self.assertIn(node.func.attr, METHODS, where)
+                        self.assertIn(node.func.attr, known, where)
                         self.assertEqual(node.keywords, [], where)
                 if isinstance(node, (ast.Set, ast.SetComp, ast.GeneratorExp)):
                     parents = [
@@ -236,13 +245,22 @@ class Trees(unittest.TestCase):
                     ]
                     self.assertTrue(parents, where)
 
-    def test_only_error_classes(self):
+    def test_classes_and_errors(self):
+        own = own_methods()
         for name, text, tree in sources():
             for node in ast.walk(tree):
                 if isinstance(node, ast.ClassDef):
-                    self.assertEqual(name, "errors.py")
+                    self.assertIn(node, tree.body)
+                    self.assertEqual(node.decorator_list, [])
+                    for part in node.body:
+                        self.assertTrue(isinstance(part, ast.FunctionDef) or part is node.body[0], name)
                 if isinstance(node, ast.Raise):
                     self.assertIsInstance(node.exc, ast.Call, name)
+                if isinstance(node, ast.Attribute) and isinstance(node.ctx, ast.Store):
+                    self.assertIsInstance(node.value, ast.Name)
+                    self.assertNotIn(node.attr, METHODS | own, name)
+                    self.assertNotIn(node.attr, BARRED_NAMES, name)
+        self.assertFalse((own - {"__init__"}) & METHODS)
 
 
 if __name__ == "__main__":
