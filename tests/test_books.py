@@ -20,6 +20,7 @@ NO_ACTIONS = [
     ("count", -1), ("count",), ("count", 1, 2), ("jump",), ("jump", 3), ("jump", ""), ("back", 1), ("pass",),
     ("Accept",), (" drop",), ("",), ["accept"], "accept", None, 0, (0,), ("mark", None), ("count", (1,)),
     (("accept",),), (b"accept",), (True,), ("jump", "nowhere"), ("jump", "main"), ("jump", None),
+    ("jump", "b", "b"), ("jump", Trap()), ("mark", Trap()), (Trap(),), (Trap(), 3),
 ]
 
 
@@ -89,11 +90,9 @@ class IsBook(unittest.TestCase):
     def test_actions(self):
         for action in ACTIONS:
             self.assertIs(is_book(of_rule(((), action))), True, action)
-        for action in NO_ACTIONS + [("back",)]:
-            self.assertIs(is_book(of_rule(((), action))), False, action)
-            if action != ("back",):
-                book = (("main", (), DROP), ("b", (((), action),), DROP))
-                self.assertIs(is_book(book), False, action)
+        for action in NO_ACTIONS:
+            self.assertIs(is_book(of_rule(((), action))), False)
+            self.assertIs(is_book((("main", (), DROP), ("b", (((), action),), DROP))), False)
 
     def test_defaults(self):
         for default in [("accept",), ("drop",), ("refuse", 0), ("refuse", 255)]:
@@ -103,8 +102,8 @@ class IsBook(unittest.TestCase):
         self.assertIs(is_book((("main", (), ("back",)),)), False)
         self.assertIs(is_book((("main", (), ("back",)), ("b", (), ("back",)))), False)
         for default in [("mark", 1), ("count", 1), ("jump", "b")] + NO_ACTIONS:
-            self.assertIs(is_book((("main", (), default), ("b", (), DROP))), False, default)
-            self.assertIs(is_book((("main", (), DROP), ("b", (), default), ("c", (), DROP))), False, default)
+            self.assertIs(is_book((("main", (), default), ("b", (), DROP))), False)
+            self.assertIs(is_book((("main", (), DROP), ("b", (), default), ("c", (), DROP))), False)
 
     def test_back(self):
         rule = ((), ("back",))
@@ -119,6 +118,8 @@ class IsBook(unittest.TestCase):
                 book = tuple((words[i], (rule,) if i == start else (), DROP) for i in range(3))
                 right = word in words[start + 1:]
                 self.assertIs(is_book(book), right, (start, word))
+        for value in odd_values() + [("b",), ["b"], b"b"]:
+            self.assertIs(is_book((("a", (((), ("jump", value)),), DROP), ("b", (), DROP))), False)
 
     def test_any_value(self):
         for value in odd_values():

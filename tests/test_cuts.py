@@ -9,7 +9,7 @@ from gatewarden.cuts import check_cuts, count_views, cut_tree, settled
 from gatewarden.views import FIELDS, TOPS
 from gatewarden.walking import walk
 from tests.bookhelp import B, DECISIONS, ends_in, holds, random_book, random_view
-from tests.helpers import nested, odd_values, resized, spoilt
+from tests.helpers import Trap, nested, odd_values, resized, spoilt
 
 DROP = ("drop",)
 
@@ -249,6 +249,18 @@ class Trees(unittest.TestCase):
         for leaf in resized(("is", DROP)):
             self.assertIs(check_cuts((("a", (), DROP),), whole_box(), leaf), False)
         self.assertIs(check_cuts((("a", (), DROP),), whole_box(), nested(("is", DROP), 150)), False)
+
+    def test_other_words(self):
+        book = (("a", (), DROP),)
+        leaf = ("is", DROP)
+        for word in ("cut", "is", "Cut", "cuts", "", "sport", None, 1, b"cut", ("cut",), Trap()):
+            right = type(word) is str and word == "cut"
+            self.assertIs(check_cuts(book, whole_box(), (word, "sport", 5, leaf, leaf)), right)
+        for word in ("is", "cut", "Is", "", "drop", None, 1, b"is", ("is",), Trap()):
+            right = type(word) is str and word == "is"
+            self.assertIs(check_cuts(book, whole_box(), (word, DROP)), right)
+        self.assertIs(check_cuts(book, whole_box(), ("cut", Trap(), 5, leaf, leaf)), False)
+        self.assertIs(check_cuts(book, whole_box(), ("cut", "sport", Trap(), leaf, leaf)), False)
 
     def test_deep_trees(self):
         book = (("a", (), DROP),)

@@ -79,17 +79,6 @@ def own_methods():
     }
 
 
-def module_names(tree):
-    """The names bound at module level, each as often as it is bound."""
-    for node in tree.body:
-        if isinstance(node, (ast.FunctionDef, ast.ClassDef)):
-            yield node.name
-        elif isinstance(node, ast.Assign):
-            yield from (target.id for target in node.targets)
-        elif isinstance(node, ast.ImportFrom):
-            yield from (alias.asname or alias.name for alias in node.names)
-
-
 def own_names(tree):
     """The names that a file itself defines at module level."""
     for node in tree.body:
@@ -97,6 +86,14 @@ def own_names(tree):
             yield node.name
         elif isinstance(node, ast.Assign):
             yield from (target.id for target in node.targets)
+
+
+def module_names(tree):
+    """The names bound at module level, each as often as it is bound."""
+    yield from own_names(tree)
+    for node in tree.body:
+        if isinstance(node, ast.ImportFrom):
+            yield from (alias.asname or alias.name for alias in node.names)
 
 
 class Texts(unittest.TestCase):
