@@ -2,8 +2,11 @@
 
 from gatewarden.errors import BadBook, NoPlace
 from gatewarden.ranges import is_set
-from gatewarden.shapes import is_number, is_tuple, is_word
+from gatewarden.shapes import first_text, is_number, is_tuple, is_word
 from gatewarden.views import FIELDS, TOPS
+
+ACCEPT = ("accept",)
+DROP = ("drop",)
 
 MARK = "mark"
 MARK_TOP = 255
@@ -32,16 +35,9 @@ def is_condition(value):
     return is_set(a) and (a == () or a[-1][1] <= top_of(field))
 
 
-def _first_text(value):
-    """The string with which a value begins as a tuple, and otherwise an empty one."""
-    if type(value) == tuple and value != () and type(value[0]) == str:
-        return value[0]
-    return ""
-
-
 def is_decision(value):
     """True if any value is a decision."""
-    text = _first_text(value)
+    text = first_text(value)
     if text == "refuse":
         return len(value) == 2 and is_number(value[1], 0, CODE_TOP)
     return text in ("accept", "drop") and len(value) == 1
@@ -49,18 +45,19 @@ def is_decision(value):
 
 def is_action(value):
     """True if any value is an action."""
-    text = _first_text(value)
+    text = first_text(value)
     if text == "jump":
         return len(value) == 2 and is_word(value[1])
     if text == "mark":
         return len(value) == 2 and is_number(value[1], 0, MARK_TOP)
     if text == "count":
         return len(value) == 2 and is_number(value[1], 0, COUNT_TOP)
-    return _is_back(value) or is_decision(value)
+    return is_back(value) or is_decision(value)
 
 
-def _is_back(value):
-    return _first_text(value) == "back" and len(value) == 1
+def is_back(value):
+    """True if any value is the action that goes back."""
+    return first_text(value) == "back" and len(value) == 1
 
 
 def is_rule(value):
@@ -80,7 +77,7 @@ def is_chain(value):
     word, rules, default = value
     if not is_word(word) or type(rules) != tuple or len(rules) > MOST_RULES:
         return False
-    return all(is_rule(rule) for rule in rules) and (_is_back(default) or is_decision(default))
+    return all(is_rule(rule) for rule in rules) and (is_back(default) or is_decision(default))
 
 
 def is_book(value):
@@ -92,7 +89,7 @@ def is_book(value):
     words = [chain[0] for chain in value]
     if len(set(words)) < len(words):
         return False
-    if _is_back(value[0][2]) or any(_is_back(rule[1]) for rule in value[0][1]):
+    if is_back(value[0][2]) or any(is_back(rule[1]) for rule in value[0][1]):
         return False
     return all(_jumps_onwards(value[i], words[i + 1:]) for i in range(len(value)))
 

@@ -31,8 +31,7 @@ def box_of(view):
     return tuple((number, number) for number in view)
 
 
-def halves(box, field, at):
-    """The box in which the high of a field is at - 1, and the one in which its low is at."""
-    k = FIELDS.index(field)
-    low, high = box[k]
-    return (*box[:k], (low, at - 1), *box[k + 1:]), (*box[:k], (at, high), *box[k + 1:])
+def halves(ranges, k, at):
+    """The ranges in which the high of the one with the number k is at - 1, and those in which its low is at."""
+    low, high = ranges[k]
+    return (*ranges[:k], (low, at - 1), *ranges[k + 1:]), (*ranges[:k], (at, high), *ranges[k + 1:])

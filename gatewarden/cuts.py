@@ -3,7 +3,7 @@
 from gatewarden.books import MARK, is_decision
 from gatewarden.boxes import halves
 from gatewarden.ranges import contains
-from gatewarden.shapes import is_number
+from gatewarden.shapes import first_text, is_number
 from gatewarden.views import FIELDS
 from gatewarden.walking import walked
 
@@ -36,7 +36,7 @@ def settled(book, box):
     return (name, first_cut(numbers, lowest, highest))
 
 
-def _is_walk(result):
+def is_walk(result):
     """True if what `settled` returns is that of a walk that came to its end."""
     return len(result) == 4
 
@@ -44,10 +44,10 @@ def _is_walk(result):
 def cut_tree(book, box):
     """A tree of cuts for a book and a box."""
     result = settled(book, box)
-    if _is_walk(result):
+    if is_walk(result):
         return ("is", result[0])
     field, at = result
-    below, above = halves(box, field, at)
+    below, above = halves(box, FIELDS.index(field), at)
     return ("cut", field, at, cut_tree(book, below), cut_tree(book, above))
 
 
@@ -56,11 +56,9 @@ def check_cuts(book, box, value):
     waiting = [(box, value)]
     while waiting:
         part, tree = waiting.pop()
-        if type(tree) != tuple:
-            return False
-        if _is_cut(part, tree):
+        if is_cut(part, FIELDS, tree):
             _, field, at, below, above = tree
-            lower, upper = halves(part, field, at)
+            lower, upper = halves(part, FIELDS.index(field), at)
             waiting.append((lower, below))
             waiting.append((upper, above))
         elif not _is_leaf(book, part, tree):
@@ -68,23 +66,23 @@ def check_cuts(book, box, value):
     return True
 
 
-def _is_cut(box, tree):
-    """True if a tuple is a cut through a box, whatever its two trees are."""
-    if len(tree) != 5 or type(tree[0]) != str or tree[0] != "cut":
+def is_cut(ranges, fields, tree):
+    """True if any value is a cut through the ranges of some fields, whatever its two trees are."""
+    if first_text(tree) != "cut" or len(tree) != 5:
         return False
     field, at = tree[1:3]
-    if type(field) != str or field not in FIELDS:
+    if type(field) != str or field not in fields:
         return False
-    low, high = box[FIELDS.index(field)]
+    low, high = ranges[fields.index(field)]
     return is_number(at, low + 1, high)
 
 
 def _is_leaf(book, box, tree):
-    """True if a tuple tells the decision of the settled walk in a box."""
-    if len(tree) != 2 or type(tree[0]) != str or tree[0] != "is" or not is_decision(tree[1]):
+    """True if any value tells the decision of the settled walk in a box."""
+    if first_text(tree) != "is" or len(tree) != 2 or not is_decision(tree[1]):
         return False
     result = settled(book, box)
-    return _is_walk(result) and result[0] == tree[1]
+    return is_walk(result) and result[0] == tree[1]
 
 
 def count_views(book, box, decision):
@@ -94,8 +92,8 @@ def count_views(book, box, decision):
     while waiting:
         part = waiting.pop()
         result = settled(book, part)
-        if not _is_walk(result):
-            waiting.extend(halves(part, result[0], result[1]))
+        if not is_walk(result):
+            waiting.extend(halves(part, FIELDS.index(result[0]), result[1]))
         elif result[0] == decision:
             total += _size(part)
     return total

@@ -90,7 +90,7 @@ def read_packet(row):
     reason = _outer_fault(row)
     if reason:
         raise Malformed(reason)
-    end = _options_end(row)
+    end = options_end(row[0])
     source, destination, kind, behind = _word(row, 8), _word(row, 10), row[1], row[end:]
     reason = _inner_fault(source, destination, kind, behind)
     if reason:
@@ -103,9 +103,9 @@ def _word(row, at):
     return 256 * row[at] + row[at + 1]
 
 
-def _options_end(row):
+def options_end(first_byte):
     """The number of the bytes up to the end of the options, as the first byte tells it."""
-    return 2 * (row[0] - 64)
+    return 2 * (first_byte - 64)
 
 
 def _outer_fault(row):
@@ -116,7 +116,7 @@ def _outer_fault(row):
         return "version"
     if _word(row, 2) != len(row) or len(row) > GREATEST_LENGTH:
         return "length"
-    end = _options_end(row)
+    end = options_end(row[0])
     if len(row) < end:
         return "header"
     if folded(words_of(row[:end])) != 65535:

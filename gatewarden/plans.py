@@ -1,13 +1,10 @@
 """Plans: the decisions of books as canonical diagrams (points 6.1 to 6.5)."""
 
-from gatewarden.books import MARK, is_decision
+from gatewarden.books import ACCEPT, DROP, MARK, is_decision
 from gatewarden.ranges import contains, ends_of
 from gatewarden.shapes import is_number, is_tuple
 from gatewarden.views import FIELDS, TOPS
 from gatewarden.walking import walked
-
-DROP = ("drop",)
-ACCEPT = ("accept",)
 
 
 class Nodes:
@@ -186,7 +183,7 @@ def led(plan, view):
     return target
 
 
-def _decisions(plan):
+def decisions_of(plan):
     """The decisions of a plan, as the keys of a dict."""
     nodes, root = plan
     found = {root: True}
@@ -198,7 +195,7 @@ def _decisions(plan):
 
 def tidied(plan):
     """The canonical plan that leads each tuple as a plan does."""
-    return joined_plans(plan, ((), ACCEPT), {(decision, ACCEPT): decision for decision in _decisions(plan)})
+    return joined_plans(plan, ((), ACCEPT), {(decision, ACCEPT): decision for decision in decisions_of(plan)})
 
 
 def _field_of(plan, target):
@@ -257,7 +254,7 @@ def narrowed(plan, field, low, high):
     if high < top:
         branches = [*branches, (top, DROP)]
     window = (((field, tuple(branches)),), 0)
-    return joined_plans(plan, window, {(decision, ACCEPT): decision for decision in _decisions(plan)})
+    return joined_plans(plan, window, {(decision, ACCEPT): decision for decision in decisions_of(plan)})
 
 
 def _room(start, end):

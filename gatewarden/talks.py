@@ -18,6 +18,9 @@ STREAM_MOVES = {
 # For a state without its sign and a side, the state after the packet.
 ASKING_MOVES = {(0, 0): 1, (1, 0): 1, (1, 1): 2, (2, 0): 2, (2, 1): 2}
 
+# For the kinds with talks, the greatest number of a state.
+GREATEST_STATES = {6: 4, 17: 2}
+
 WRONG = 6
 
 
@@ -73,10 +76,20 @@ def talk_code(kind, state, sender, flags):
     return abs(state) + 1
 
 
+def talk_at(kind, state, sender, flags):
+    """What a book sees of a talk, its code and the side of the packet, and the state if the packet is accepted."""
+    if not has_ports(kind):
+        return 0, 0, state
+    then = moved(kind, state, sender, flags)
+    return talk_code(kind, state, sender, flags), side_of(state, sender), state if then is None else then
+
+
 def view_of(sight, state):
     """The view of a sight, for the state of its talk."""
-    kind, flags = sight[1], sight[6]
-    if not has_ports(kind):
-        return (*sight, 0, 0)
-    sender = sender_of(sight)
-    return (*sight, talk_code(kind, state, sender, flags), side_of(state, sender))
+    code, side, _ = talk_at(sight[1], state, sender_of(sight), sight[6])
+    return (*sight, code, side)
+
+
+def greatest_state(kind):
+    """The greatest number of a state of a kind, 0 for kinds without talks."""
+    return GREATEST_STATES.get(kind, 0)

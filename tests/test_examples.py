@@ -57,6 +57,27 @@ True
 >>> from gatewarden.plans import plan_of
 >>> plan_of((("main", (((("sport", ((5, 9),)),), ("accept",)),), ("drop",)),))
 (((3, ((4, ('drop',)), (9, ('accept',)), (65535, ('drop',)))),), 0)
+>>> from gatewarden.rows import run_row, states_after
+>>> run_row((B,), ((0, 6, 9, 7, 4, 80, 1, 0, 20), (1, 6, 4, 80, 9, 7, 1, 0, 20), (1, 6, 4, 80, 9, 7, 1, 0, 20)))
+[('accept',), ('accept',), ('drop',)]
+>>> states_after((B,), ((0, 6, 9, 7, 4, 80, 1, 0, 20), (1, 6, 4, 80, 9, 7, 1, 0, 20)))
+[((6, (4, 80), (9, 7)), (-2,))]
+>>> from gatewarden.gate import Gate
+>>> from gatewarden.packets import write_packet
+>>> gate = Gate(B, ())
+>>> gate.receive(0, write_packet((9, 4, 17, 64, (), (7, 81), ())))[:2]
+('back', 0)
+>>> gate.receive(0, write_packet((9, 4, 17, 64, (), (7, 80), ())))[:2]
+('out', 1)
+>>> gate.talks()
+[((17, (4, 80), (9, 7)), -1)]
+>>> from gatewarden.questions import alike, ever, shortest
+>>> alike((B,), (B, B))
+True
+>>> ever((B,), (("interface", ((1, 1),)),), ("accept",))
+True
+>>> shortest(("get", (B,), (("interface", ((1, 1),)),), ("accept",)))
+2
 """
 
 

@@ -23,10 +23,32 @@ INTERFACE = {
     "cuts": "settled(book,box) cut_tree(book,box) check_cuts(book,box,value) count_views(book,box,decision)",
     "plans": "plan_of(book) tidied(plan) joined_plans(first,second,pairs) narrowed(plan,field,low,high)"
              " is_plan(value) led(plan,view) counted(plan,decision) differing(first,second)",
+    "rows": "is_row(value) run_row(row,history) states_after(row,history) decisions_at(row,states,sight)",
+    "watches": "is_watch(value) comes_true(watch,history)",
+    "closing": "whole_lane() paper_of(watch) check_paper(watch,value)",
+    "questions": "alike(first,second) ever(row,conditions,decision) breaks(old,new) shortest(watch)",
+    "needed": "hidden_rules(book) needless_rules(book) least_book(book)",
+}
+
+# For each file its classes, each with the arguments that it is made by and its methods.
+CLASSES = {
+    "gate": {"Gate": "__init__(self,book,exchange) receive(self,interface,row) talks(self) counts(self) forget(self,key)"
+                     " set_book(self,book) book(self) exchange(self)"},
 }
 
 
 class Interface(unittest.TestCase):
+    def test_classes(self):
+        for name, classes in CLASSES.items():
+            module = importlib.import_module(f"gatewarden.{name}")
+            for class_name, listed in classes.items():
+                found = getattr(module, class_name)
+                self.assertEqual(found.__module__, module.__name__)
+                for entry in listed.split():
+                    method, arguments = entry[:-1].split("(")
+                    self.assertIn(method, vars(found))
+                    self.assertEqual(",".join(inspect.signature(vars(found)[method]).parameters), arguments, entry)
+
     def test_functions(self):
         for name, listed in INTERFACE.items():
             module = importlib.import_module(f"gatewarden.{name}")

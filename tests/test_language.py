@@ -1,7 +1,7 @@
 """The rules of the language that can be seen in the text of the package.
 
 This is narrower than the rules in several places: what the package does not need, such as
-`try`, annotations or generators, is refused here altogether until it is needed.
+annotations or generators, is refused here altogether until it is needed.
 """
 
 import ast
@@ -35,8 +35,10 @@ BARRED_WORDS = re.compile(
 MODULE_LEVEL = (ast.ImportFrom, ast.FunctionDef, ast.ClassDef, ast.Assign, ast.Expr)
 STATEMENTS = (
     ast.Assign, ast.AugAssign, ast.If, ast.While, ast.For, ast.Return, ast.Break, ast.Continue, ast.Pass, ast.Raise,
-    ast.Delete, ast.Expr, ast.FunctionDef,
+    ast.Delete, ast.Expr, ast.FunctionDef, ast.Try,
 )
+# What may be imported from the library, each to be iterated at once.
+LIBRARY = {"itertools": {"combinations"}}
 
 
 def sources():
@@ -58,6 +60,14 @@ def bound_names(tree):
             yield node.id
         elif isinstance(node, ast.alias):
             yield node.asname or node.name
+        elif isinstance(node, ast.ExceptHandler) and node.name:
+            yield node.name
+
+
+def own_errors():
+    """The error classes that the package defines."""
+    return {node.name for name, text, tree in sources() if name == "errors.py" for node in tree.body
+            if isinstance(node, ast.ClassDef)}
 
 
 def local_names(function):
@@ -68,6 +78,8 @@ def local_names(function):
         elif isinstance(node, ast.Name) and not isinstance(node.ctx, ast.Load):
             yield node.id
         elif isinstance(node, ast.FunctionDef) and node is not function:
+            yield node.name
+        elif isinstance(node, ast.ExceptHandler) and node.name:
             yield node.name
 
 
@@ -154,6 +166,10 @@ class Trees(unittest.TestCase):
             for node in nodes:
                 self.assertIn(node, tree.body)
                 self.assertIsInstance(node, ast.ImportFrom)
+                if node.module in LIBRARY:
+                    self.assertLessEqual({alias.name for alias in node.names}, LIBRARY[node.module])
+                    self.assertEqual([alias.asname for alias in node.names], [None] * len(node.names))
+                    continue
                 package, _, module = node.module.partition(".")
                 self.assertEqual((package, node.level), ("gatewarden", 0))
                 leads[name].append(module)
@@ -215,6 +231,45 @@ class Trees(unittest.TestCase):
             known = set(bound_names(tree)) | BUILTINS
             for read in reads:
                 self.assertIn(read, known, name)
+
+    def test_errors_that_are_caught(self):
+        known = own_errors()
+        for name, text, tree in sources():
+            for node in ast.walk(tree):
+                if isinstance(node, ast.Try):
+                    self.assertEqual((node.finalbody, node.orelse), ([], []), name)
+                    for handler in node.handlers:
+                        self.assertIsInstance(handler.type, ast.Name, name)
+                        self.assertIn(handler.type.id, known, name)
+                if isinstance(node, ast.FunctionDef):
+                    caught = [part.name for part in ast.walk(node) if isinstance(part, ast.ExceptHandler) and part.name]
+                    stored = [part.id for part in ast.walk(node)
+                              if isinstance(part, ast.Name) and not isinstance(part.ctx, ast.Load)]
+                    stored += [part.arg for part in ast.walk(node) if isinstance(part, ast.arg)]
+                    self.assertEqual(set(caught) & set(stored), set(), (name, node.name))
+
+    def test_what_is_iterated_at_once(self):
+        names = {name for module in LIBRARY.values() for name in module}
+        for name, text, tree in sources():
+            loops = [node.iter for node in ast.walk(tree) if isinstance(node, (ast.For, ast.comprehension))]
+            calls = [node for node in ast.walk(tree) if isinstance(node, ast.Call)]
+            for node in ast.walk(tree):
+                if isinstance(node, ast.Name) and node.id in names:
+                    [call] = [call for call in calls if call.func is node]
+                    self.assertIn(call, loops, name)
+
+    def test_lambdas(self):
+        for name, text, tree in sources():
+            lines = [node.lineno for node in ast.walk(tree) if isinstance(node, ast.Lambda)]
+            self.assertEqual(len(lines), len(set(lines)), name)
+
+    def test_sets_are_not_kept(self):
+        for name, text, tree in sources():
+            for node in ast.walk(tree):
+                if isinstance(node, (ast.For, ast.comprehension)):
+                    self.assertNotIsInstance(node.iter, (ast.Set, ast.SetComp), name)
+                    if isinstance(node.iter, ast.Call) and isinstance(node.iter.func, ast.Name):
+                        self.assertNotEqual(node.iter.func.id, "set", name)
 
     def test_expressions(self):
         known = METHODS | own_methods()
