@@ -78,6 +78,9 @@ True
 True
 >>> shortest(("get", (B,), (("interface", ((1, 1),)),), ("accept",)))
 2
+>>> from gatewarden.machine import run_program
+>>> run_program((("byte", 0, "outer", 1), ("less", 0, 17, 2, 3), ("answer", ("drop",)), ("answer", ("accept",))), (9, 4, 17, 64, (), (7, 81), ()), (0, 17, 9, 7, 4, 81, 0, 0, 18, 1, 0))
+('answer', ('accept',), 3)
 """
 
 

@@ -28,6 +28,12 @@ INTERFACE = {
     "closing": "whole_lane() paper_of(watch) check_paper(watch,value)",
     "questions": "alike(first,second) ever(row,conditions,decision) breaks(old,new) shortest(watch)",
     "needed": "hidden_rules(book) needless_rules(book) least_book(book)",
+    "sightcounts": "count_first(book,decision)",
+    "tallies": "tally(book,history) woven(histories,order)",
+    "doubles": "is_double(value) book_at(double,thrown) switches(double) double_of(old,new)",
+    "steps": "between(a,b,c) step_paper(double) check_steps(double,value) smooth_orders(double)",
+    "machine": "is_program(value) run_program(program,packet,view)",
+    "byteboxes": "is_byte_box(value) lies_in(box,packet,view)",
 }
 
 # For each file its classes, each with the arguments that it is made by and its methods.
