@@ -56,7 +56,7 @@ def check_cuts(book, box, value):
     waiting = [(box, value)]
     while waiting:
         part, tree = waiting.pop()
-        if is_cut(part, FIELDS, tree):
+        if is_cut(part, list(FIELDS), tree):
             _, field, at, below, above = tree
             lower, upper = halves(part, FIELDS.index(field), at)
             waiting.append((lower, below))

@@ -8,15 +8,15 @@ from gatewarden.talks import greatest_state, talk_at
 from gatewarden.views import has_ports, least_length
 from gatewarden.watching import Watcher
 
-LANE_FIELDS = ["kind", "first", "firstport", "second", "secondport", "code", "length"]
-LANE_TOPS = [255, 65535, 65535, 65535, 65535, 65535, 1500]
+LANE_FIELDS = ("kind", "first", "firstport", "second", "secondport", "code", "length")
+LANE_TOPS = (255, 65535, 65535, 65535, 65535, 65535, 1500)
 
 # The fields of a view whose ranges a lane box tells, and for each sender where it tells them.
-TOLD_FIELDS = ["kind", "source", "sport", "destination", "dport", "code", "length"]
+TOLD_FIELDS = ("kind", "source", "sport", "destination", "dport", "code", "length")
 LANE_PLACES = ((0, 1, 2, 3, 4, 5, 6), (0, 3, 4, 1, 2, 5, 6))
 
 # The other fields of a view, which the letter and the talk tell: a moment has a value for each of them.
-MOMENT_FIELDS = ["interface", "flags", "talk", "side"]
+MOMENT_FIELDS = ("interface", "flags", "talk", "side")
 
 
 def whole_ranges():
@@ -113,7 +113,7 @@ def _left_of(book, ranges):
 def _left_conditions(conditions, ranges):
     """The numbers of the conditions that are left to be asked, with the cut of the first one that is not settled.
 
-    None if the first one that is left does not hold.
+    None if one before that does not hold: then the rule is not met, whatever the other fields are.
     """
     found = []
     for number in range(len(conditions)):
@@ -128,10 +128,7 @@ def _left_conditions(conditions, ranges):
             found.append((number, cut))
             break
         if not contains(a, low):
-            if not found:
-                return None
-            found.append((number, -1))
-            break
+            return None
     return tuple(found)
 
 
@@ -152,7 +149,7 @@ class LaneRuns:
         self.numbers = [self.books.index(book) for book in self.watcher.books]
         self.others = [_conditions_on(book, MOMENT_FIELDS) for book in self.books]
         # The numbers at which a condition on the length changes.
-        lengths = [a for book in self.books for _, a in _conditions_on(book, ["length"])]
+        lengths = [a for book in self.books for _, a in _conditions_on(book, ("length",))]
         self.length_ends = ends_of(lengths, GREATEST_LENGTH)
         self.moments = {}
         self.forms = {}

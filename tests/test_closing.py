@@ -398,6 +398,15 @@ class RightPapers(unittest.TestCase):
                     other = replaced(tree, way, ("talks", leaf[1], lengths))
                     self.assertIs(check_paper(watch, ("closed", other)), set(needed) <= set(lengths), lengths)
 
+    def test_ends_at_the_least_lengths(self):
+        for start in (12, 16, 18, 19, 20, 21):
+            book = only(("length", ((start, 1499),)), ("talk", ((0, 2),)))
+            for watch in [("part", (book,), (book,)), ("get", (book,), (), ("refuse", 1)), ("break", book, book)]:
+                paper = paper_of(watch)
+                self.assertEqual(paper[0], "closed")
+                self.assertIs(check_paper(watch, paper), True)
+                self.assertTrue(is_right_tree(watch, WHOLE, paper[1]))
+
     def test_states_of_a_kind(self):
         watch = ("get", (KEEPER,), (("flags", ((3, 3),)),), ACCEPT)
         tree = ("cut", "kind", 17, ("cut", "kind", 7, ("cut", "kind", 6, ("loose",), ("talks", tuple(
@@ -528,6 +537,24 @@ class Leaves(unittest.TestCase):
             self.assertIs(self.leaf_in(watch, with_lane_range(lane, name, 0, at - 1), ("loose",)), True)
             self.assertIs(self.leaf_in(watch, with_lane_range(lane, name, at, 1500), ("loose",)), True)
             self.assertIs(self.leaf_in(watch, with_lane_range(lane, name, at - 1, 1500), ("loose",)), False)
+
+    def test_talks_where_there_are_none(self):
+        for kind in (0, 1, 5, 7, 16, 18, 40, 255):
+            lane = ((kind, kind),) + WHOLE[1:]
+            self.assertIs(self.leaf_in(self.WATCH, lane, ("loose",)), True)
+            for states in [((0, 0),), ((-1, -1), (0, 0), (1, 1)), ()]:
+                self.assertIs(self.leaf_in(self.WATCH, lane, ("talks", states, ())), False, kind)
+        lane = ((5, 6),) + WHOLE[1:]
+        self.assertIs(self.leaf_in(self.WATCH, lane, ("talks", tuple((x, x) for x in range(-4, 5)), ())), False)
+
+    def test_leaves_with_more_items(self):
+        empty = ((0, 255), (5, 5), (0, 9), (5, 5), (3, 3), (0, 65535), (0, 1500))
+        loose = ((7, 16),) + WHOLE[1:]
+        for lane, leaf in [(empty, ("empty",)), (loose, ("loose",))]:
+            self.assertIs(self.leaf_in(self.WATCH, lane, leaf), True)
+            for other in [leaf + ((),), leaf + (None,), leaf * 2, leaf + leaf * 2, list(leaf), leaf[0], (leaf,), leaf + ((), (), (), ())]:
+                self.assertIs(self.leaf_in(self.WATCH, lane, other), False)
+        self.assertIs(self.leaf_in(self.WATCH, loose, ("empty",)), False)
 
     def test_loose_asks_both_interfaces(self):
         for interface in (0, 1):

@@ -271,6 +271,27 @@ class Trees(unittest.TestCase):
                     if isinstance(node.iter, ast.Call) and isinstance(node.iter.func, ast.Name):
                         self.assertNotEqual(node.iter.func.id, "set", name)
 
+    def test_lists_at_module_level_are_only_read(self):
+        kept = {
+            target.id for name, text, tree in sources() for node in tree.body if isinstance(node, ast.Assign)
+            for target in node.targets if isinstance(node.value, (ast.List, ast.Dict))
+        }
+        self.assertIn("FIELDS", kept)
+        for name, text, tree in sources():
+            allowed = []
+            for node in ast.walk(tree):
+                if isinstance(node, (ast.Subscript, ast.Attribute)) and isinstance(node.ctx, ast.Load):
+                    allowed.append(node.value)
+                elif isinstance(node, (ast.For, ast.comprehension)):
+                    allowed.append(node.iter)
+                elif isinstance(node, ast.Compare):
+                    allowed.extend(node.comparators)
+                elif isinstance(node, ast.Call) and isinstance(node.func, ast.Name) and node.func.id in BUILTINS:
+                    allowed.extend(node.args)
+            for node in ast.walk(tree):
+                if isinstance(node, ast.Name) and node.id in kept and isinstance(node.ctx, ast.Load):
+                    self.assertIn(node, allowed, (name, node.id, node.lineno))
+
     def test_expressions(self):
         known = METHODS | own_methods()
         for name, text, tree in sources():

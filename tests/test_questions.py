@@ -5,6 +5,7 @@ import unittest
 
 from gatewarden.closing import paper_of
 from gatewarden.questions import alike, breaks, ever, shortest
+from gatewarden.views import FIELDS, TOPS
 from tests.bookhelp import B, DECISIONS
 from tests.historyhelp import (
     ACCEPT, ALL, DROP, KEEPER, NOTHING, changed_book, late_book, living_book, only, plain_shortest, random_watch, small_fields,
@@ -46,6 +47,14 @@ class ByHand(unittest.TestCase):
         ]:
             self.assertIs(alike((only(*conditions),), (NOTHING,)), True, conditions)
             self.assertIs(alike((only(*conditions, action=DROP, default=ACCEPT),), (ALL,)), True, conditions)
+
+    def test_whole_ranges(self):
+        # What all values of a field have is no condition.
+        for field, top in zip(FIELDS, TOPS):
+            self.assertIs(alike((only((field, ((0, top),))),), (ALL,)), True, field)
+            self.assertIs(alike((only((field, ((0, top),)), action=("refuse", 1)),), (ALL,)), False, field)
+            if field not in ("talk", "side"):
+                self.assertIs(ever((ALL,), ((field, ((0, top),)),), DROP), False)
 
     def test_talks_that_are_opened_by_one_gate_alone(self):
         # Of long packets the inner gate alone takes notice; the outer one stops them.
@@ -111,7 +120,7 @@ class ByHand(unittest.TestCase):
         # Early for one address, late for the others; the first lane that is looked at has the late one.
         for early in (0, 7, 65535):
             book = (("main", (
-                ((("source", ((early, early),)), ("talk", ((2, 2),))), ("refuse", 1)),
+                ((("source", ((early, early),)), ("talk", ((2, 2),)), ("kind", ((6, 6),))), ("refuse", 1)),
                 ((("talk", ((5, 5),)),), ("refuse", 1)),
             ), ACCEPT),)
             self.assertEqual(shortest(("get", (book,), (), ("refuse", 1))), 2)

@@ -113,6 +113,16 @@ class Between(unittest.TestCase):
             self.check(ALL, ALL, only(*conditions, action=DROP, default=ACCEPT), False)
             self.check(NOTHING, NOTHING, only(*conditions), False)
 
+    def test_equal_addresses_beside_others(self):
+        # Wherever the search begins, equal addresses must not end it.
+        for equal in (0, 5, 65535):
+            for source, destination in [(5, 6), (0, 65535), (65535, 0), (4, 9)]:
+                rules = tuple(
+                    ((("source", ((one, one),)), ("destination", ((other, other),))), DROP)
+                    for one, other in [(equal, equal), (source, destination)])
+                self.check(ALL, ALL, (("main", rules, ACCEPT),), False)
+                self.check(ALL, ALL, (("main", rules[:1], ACCEPT),), True)
+
     def test_states_that_no_history_leads_to(self):
         # No history of a gate with this book has a talk, but all states count.
         late = only(("talk", ((4, 4),)))
@@ -287,6 +297,21 @@ class OtherPapers(unittest.TestCase):
         for value in [("none", ((), (1,)), (stop,)), ("none", ((), (0, 1), (1,)), (stop,)), ("none", ((), (0, 1)), (stop,)),
                       ("none", ((),), (stop,)), ("none", ((), (0,), (1,)), ())]:
             self.assertIs(check_steps(double, value), False)
+
+    def test_tuples_of_switches(self):
+        word, sets, stops = step_paper(BLOCKED)
+        self.assertEqual((sets, switches(BLOCKED)), (((),), 2))
+        pair = stops[0][2]
+        sight = (0, 6, 9, 7, 4, 80, 1, 0, 20)
+        # With a switch 2, which is not there, all of these would be closed and stopped.
+        for more_sets, more_stops in [
+            (((1, 0),), ()), (((2,),), (((2,), 0, pair), ((2,), 1, pair))), ((), (((0,), 2, pair),)), ((), (((1,), 2, pair),)),
+            (((0, 0),), (((0, 0), 1, (sight, 0)),)), ((), (((1, 0), 2, pair),)), (((-1,),), (((-1,), 0, pair), ((-1,), 1, pair))),
+            ((), (((), -1, pair),)), ((), (((2,), 0, pair),)), ((), (((0,), 0, pair),)), (((0, 1),), ()),
+        ]:
+            value = (word, tuple(sorted(sets + more_sets)), tuple(sorted(stops + more_stops)))
+            self.assertIs(check_steps(BLOCKED, value), False, value)
+        self.assertIs(check_steps(BLOCKED, (word, sets, stops)), True)
 
     def test_orders(self):
         for value, wanted in [
