@@ -140,16 +140,19 @@ class LaneRuns:
     """
 
     def __init__(self, watch):
-        self.watcher = Watcher(watch)
-        self.gates = self.watcher.gates
-        self.books = []
-        for book in self.watcher.books:
-            if book not in self.books:
-                self.books.append(book)
-        self.numbers = [self.books.index(book) for book in self.watcher.books]
-        self.others = [_conditions_on(book, MOMENT_FIELDS) for book in self.books]
+        watcher = Watcher(watch)
+        books = []
+        for book in watcher.books:
+            if book not in books:
+                books.append(book)
+        self.watcher = watcher
+        self.gates = watcher.gates
+        # Equal books are kept once; each book of the watch has the number of its one.
+        self.books = books
+        self.numbers = [books.index(book) for book in watcher.books]
+        self.others = [_conditions_on(book, MOMENT_FIELDS) for book in books]
         # The numbers at which a condition on the length changes.
-        lengths = [a for book in self.books for _, a in _conditions_on(book, ("length",))]
+        lengths = [a for book in books for _, a in _conditions_on(book, ("length",))]
         self.length_ends = ends_of(lengths, GREATEST_LENGTH)
         self.moments = {}
         self.forms = {}
