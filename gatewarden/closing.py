@@ -63,7 +63,7 @@ def _is_leaf(runs, lane, tree, known):
     if word != "talks" or len(tree) != 3 or not is_talk_lane(lane):
         return False
     _, states, lengths = tree
-    if not _are_states(runs.gates, lane[0][0], states) or not _are_lengths(lane[0][0], lengths):
+    if not _are_states(runs.gate_count, lane[0][0], states) or not _are_lengths(lane[0][0], lengths):
         return False
     lanes = talk_lanes(lane, lengths)
     forms = [runs.forms_of(part) for part in lanes]
@@ -75,7 +75,7 @@ def _is_leaf(runs, lane, tree, known):
 
 def _is_loose(runs, lane):
     """True if both settled runs for kinds without talks come to their end and the watch does not come true."""
-    zeros = (0,) * runs.gates
+    zeros = (0,) * runs.gate_count
     return _is_closed(runs, lane[0][0], [runs.forms_of(lane)], (zeros,))
 
 

@@ -17,6 +17,24 @@ UNREACHED = 3
 BYTES_GIVEN_BACK = 8
 
 
+def arrived(exchange, interface, row):
+    """The reason why a byte row does not come to the book of a gate with an exchange, and None.
+
+    If it does: an empty text, and the packet as seen inside.
+    """
+    try:
+        packet = read_packet(row)
+    except Malformed as error:
+        return error.reason, None
+    if packet[3] == 1:
+        return "worn", None
+    if interface == OUTER:
+        packet = (packet[0], exchanged(exchange, packet[1]), *packet[2:])
+    if packet[0] == packet[1]:
+        return "mirror", None
+    return "", packet
+
+
 class Gate:
     """A gate with a book and an exchange, which keeps talks and counts."""
 
@@ -32,16 +50,9 @@ class Gate:
 
     def receive(self, interface, row):
         """What the gate does with a byte row that comes to an interface."""
-        try:
-            packet = read_packet(row)
-        except Malformed as error:
-            return ("dropped", error.reason)
-        if packet[3] == 1:
-            return ("dropped", "worn")
-        if interface == OUTER:
-            packet = (packet[0], exchanged(self._exchange, packet[1]), *packet[2:])
-        if packet[0] == packet[1]:
-            return ("dropped", "mirror")
+        reason, packet = arrived(self._exchange, interface, row)
+        if packet is None:
+            return ("dropped", reason)
         decision = self._decided(sight_of(interface, packet))
         if decision == ACCEPT:
             return ("out", 1 - interface, self._sent_on(interface, packet))
@@ -98,6 +109,11 @@ class Gate:
             raise NoTalk("there is no talk of this key")
         self._set_state(key, 0)
 
+    def take_over(self, talks, counts):
+        """Keeps the talks and counts of two lists of pairs in the place of its own."""
+        self._talks = {key: state for key, state in talks}
+        self._counts = {number: count for number, count in counts}
+
     def set_book(self, book):
         """Puts another book in the place of the gate's; BadBook if it is none."""
         if not is_book(book):
@@ -111,3 +127,10 @@ class Gate:
     def exchange(self):
         """The exchange."""
         return self._exchange
+
+
+def copy_of(gate):
+    """A new gate that is as another one is."""
+    found = Gate(gate.book(), gate.exchange())
+    found.take_over(gate.talks(), gate.counts())
+    return found

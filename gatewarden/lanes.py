@@ -142,14 +142,14 @@ class LaneRuns:
     def __init__(self, watch):
         watcher = Watcher(watch)
         books = []
-        for book in watcher.books:
+        for book in watcher.all_books:
             if book not in books:
                 books.append(book)
         self.watcher = watcher
-        self.gates = watcher.gates
+        self.gate_count = watcher.gate_count
         # Equal books are kept once; each book of the watch has the number of its one.
-        self.books = books
-        self.numbers = [books.index(book) for book in watcher.books]
+        self.unlike_books = books
+        self.numbers = [books.index(book) for book in watcher.all_books]
         self.others = [_conditions_on(book, MOMENT_FIELDS) for book in books]
         # The numbers at which a condition on the length changes.
         lengths = [a for book in books for _, a in _conditions_on(book, ("length",))]
@@ -166,15 +166,21 @@ class LaneRuns:
         found = []
         for places in LANE_PLACES:
             ranges = [lane[place] for place in places]
-            forms = [self._form(number, ranges) for number in range(len(self.books))]
+            forms = [self._form(number, ranges) for number in range(len(self.unlike_books))]
             found.append(tuple(forms[number] for number in self.numbers))
         return tuple(found)
+
+    def talk_forms(self, lane):
+        """For a lane box of one kind with talks, the lengths at which it is cut, its ranges then, and their forms."""
+        lengths = tuple(end for end in self.length_ends if end > least_length(lane[0][0]))
+        lanes = talk_lanes(lane, lengths)
+        return lengths, lanes, [self.forms_of(part) for part in lanes]
 
     def _form(self, number, ranges):
         """The form of the ranges of the told fields for the book with a number."""
         low, _ = ranges[0]
         kind = low if has_ports(low) else None
-        key = (number, kind, _left_of(self.books[number], ranges))
+        key = (number, kind, _left_of(self.unlike_books[number], ranges))
         if key not in self.known_forms:
             if kind not in self.moments:
                 self.moments[kind] = moments_of(low, greatest_state(low))
@@ -193,7 +199,7 @@ class LaneRuns:
         for moment in moments:
             answers = tuple(contains(a, moment[MOMENT_FIELDS.index(field)]) for field, a in self.others[number])
             if answers not in known:
-                result = settled(self.books[number], _box(ranges, moment))
+                result = settled(self.unlike_books[number], _box(ranges, moment))
                 known[answers] = self.watcher.asked_part(result) if is_walk(result) else result
             found.append(known[answers])
         return found

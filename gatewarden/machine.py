@@ -21,10 +21,10 @@ def is_program(value):
     """True if any value is a program."""
     if type(value) != tuple or not 1 <= len(value) <= MOST_INSTRUCTIONS:
         return False
-    return all(_is_instruction(value[k], k, len(value)) for k in range(len(value)))
+    return all(is_instruction(value[k], k, len(value)) for k in range(len(value)))
 
 
-def _is_instruction(value, number, count):
+def is_instruction(value, number, count):
     """True if any value is an instruction that may have a number in a program of so many."""
     word = first_text(value)
     if word == "answer":

@@ -1,10 +1,9 @@
 """The search through all histories: for the shortest one at which a watch comes true, or a closing tree."""
 
 from gatewarden.boxes import halves
-from gatewarden.lanes import LANE_FIELDS, LaneRuns, sight_in, has_talk_kind, talk_lanes, whole_ranges
+from gatewarden.lanes import LANE_FIELDS, LaneRuns, sight_in, has_talk_kind, whole_ranges
 from gatewarden.letters import letters_of
 from gatewarden.packets import ASKING, STREAM
-from gatewarden.views import least_length
 from gatewarden.watching import EVERY_PLACE
 
 EMPTY = ("empty",)
@@ -54,9 +53,7 @@ class Search:
         if not has_talk_kind(lane):
             return self._loose_outcome(lane)
         kind = lane[0][0]
-        lengths = tuple(end for end in self.runs.length_ends if end > least_length(kind))
-        lanes = talk_lanes(lane, lengths)
-        forms = [self.runs.forms_of(part) for part in lanes]
+        lengths, lanes, forms = self.runs.talk_forms(lane)
         key = (kind, tuple(forms))
         if key not in self.known:
             self.known[key] = self._explored(lanes, forms, lengths)
@@ -64,7 +61,7 @@ class Search:
 
     def _loose_outcome(self, lane):
         forms = self.runs.forms_of(lane)
-        zeros = (0,) * self.runs.gates
+        zeros = (0,) * self.runs.gate_count
         kind = lane[0][0]
         for letter in letters_of(kind):
             opened, _, is_true = self.runs.run(kind, forms, zeros, letter)
@@ -77,7 +74,7 @@ class Search:
     def _explored(self, lanes, forms, lengths):
         """The outcome of a lane box of one kind with talks, with all joint states that its packets lead to."""
         kind = lanes[0][0][0]
-        zeros = (0,) * self.runs.gates
+        zeros = (0,) * self.runs.gate_count
         ways = {zeros: []}
         waiting = [zeros]
         letters = letters_of(kind)

@@ -1,6 +1,8 @@
 """Talks: their keys and states, and the views of packets (points 3.3 to 3.6)."""
 
-from gatewarden.packets import STREAM
+from gatewarden.packets import ASKING, STREAM
+from gatewarden.prefixes import is_address
+from gatewarden.shapes import is_number, is_tuple
 from gatewarden.views import has_ports
 
 # For a state without its sign, a side and flags, the state after the packet; what is not here is wrong.
@@ -23,6 +25,8 @@ GREATEST_STATES = {6: 4, 17: 2}
 
 WRONG = 6
 
+PORT_TOP = 65535
+
 
 def _ends(sight):
     """The ends of a sight: that of its source and that of its destination."""
@@ -36,6 +40,18 @@ def key_of(sight):
         return None
     first, second = sorted(_ends(sight))
     return (kind, first, second)
+
+
+def is_key(value):
+    """True if any value is the key of the talk of some sight."""
+    if not is_tuple(value, 3) or not all(_is_end(end) for end in value[1:]):
+        return False
+    return type(value[0]) == int and value[0] in (STREAM, ASKING) and value[1][0] < value[2][0]
+
+
+def _is_end(value):
+    """True if any value is an address and a port."""
+    return is_tuple(value, 2) and is_address(value[0]) and is_number(value[1], 0, PORT_TOP)
 
 
 def sender_of(sight):

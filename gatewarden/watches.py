@@ -38,7 +38,7 @@ def _is_rule_place(book, value):
 def comes_true(watch, history):
     """The number of the first sight of a history at which a watch comes true, or None."""
     watcher = Watcher(watch)
-    news, _ = run_history(history, watcher.gates, lambda states, sight: _asked(watcher, states, sight))
+    news, _ = run_history(history, watcher.gate_count, lambda states, sight: _asked(watcher, states, sight))
     return news.index(True) if True in news else None
 
 
@@ -51,7 +51,7 @@ def _asked(watcher, states, sight):
         return talk_at(kind, state, sender, flags)
 
     def walk_at(i, code, side):
-        return walk(watcher.books[i], (*sight, code, side))
+        return walk(watcher.all_books[i], (*sight, code, side))
 
     _, after, is_true = watcher.run(states, sight[0], talk_of, walk_at)
     return is_true, after

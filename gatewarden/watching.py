@@ -33,16 +33,16 @@ def _asked_behind(watch):
 class Watcher:
     """A watch that is asked packet by packet.
 
-    `books` are those of the gates, in the order of the joint states, and behind them the
-    one that is asked behind the rows; `gates` is the number of the gates.
+    `all_books` are those of the gates, in the order of the joint states, and behind them the
+    one that is asked behind the rows; `gate_count` is the number of the gates.
     """
 
     def __init__(self, watch):
         self.watch = watch
         rows = _rows_of(watch)
-        self.books = [book for row in rows for book in row]
-        self.gates = len(self.books)
-        self.books.extend(_asked_behind(watch))
+        self.all_books = [book for row in rows for book in row]
+        self.gate_count = len(self.all_books)
+        self.all_books.extend(_asked_behind(watch))
         self.orders = [[], []]
         for interface in (0, 1):
             start = 0
@@ -85,7 +85,7 @@ class Watcher:
             is_asked = states[0] != 0 and code != WRONG and decision == ACCEPT
         if not is_asked:
             return None, after, False
-        result = walk_at(self.gates, code, side)
+        result = walk_at(self.gate_count, code, side)
         if not is_walk(result):
             return result, after, False
         return None, after, (result[0] == ACCEPT) == by_conditions

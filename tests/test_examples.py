@@ -81,6 +81,9 @@ True
 >>> from gatewarden.machine import run_program
 >>> run_program((("byte", 0, "outer", 1), ("less", 0, 17, 2, 3), ("answer", ("drop",)), ("answer", ("accept",))), (9, 4, 17, 64, (), (7, 81), ()), (0, 17, 9, 7, 4, 81, 0, 0, 18, 1, 0))
 ('answer', ('accept',), 3)
+>>> from gatewarden.booktexts import write_book
+>>> write_book(B).split("\n")
+['chain main', 'rule talk=2-5 accept', 'rule interface=0 talk=1 jump inner', 'default drop', 'chain inner', 'rule dport=80 accept', 'default refuse 3']
 """
 
 

@@ -34,12 +34,21 @@ INTERFACE = {
     "steps": "between(a,b,c) step_paper(double) check_steps(double,value) smooth_orders(double)",
     "machine": "is_program(value) run_program(program,packet,view)",
     "byteboxes": "is_byte_box(value) lies_in(box,packet,view)",
+    "meaning": "meaning_paper(program,book) check_meaning(program,book,value) means(program,book)",
+    "compiling": "compiled(book)",
+    "trimming": "trimmed(program) longest_run(program)",
+    "booktexts": "write_book(book) write_exchange(exchange) write_sight(sight) read_book(text) read_exchange(text) read_sight(text)",
+    "dumps": "dumped(gate) loaded(text)",
 }
 
 # For each file its classes, each with the arguments that it is made by and its methods.
 CLASSES = {
     "gate": {"Gate": "__init__(self,book,exchange) receive(self,interface,row) talks(self) counts(self) forget(self,key)"
                      " set_book(self,book) book(self) exchange(self)"},
+    "desk": {"Desk": "__init__(self) set_book(self,word,book) drop_book(self,word) add_gate(self,word,name,exchange)"
+                     " drop_gate(self,word) set_gate(self,word,name) receive(self,word,interface,row) forget(self,word,key)"
+                     " undo(self) books(self) gates(self) book(self,word) dump(self,word) gate_book(self,word)"
+                     " ask(self,names,others) move(self,word,name)"},
 }
 
 

@@ -194,8 +194,13 @@ class Trees(unittest.TestCase):
                 if isinstance(node, ast.Assign):
                     self.assertEqual(len(node.targets), 1)
                     self.assertIsInstance(node.targets[0], ast.Name)
+                    above = [other.name for other in tree.body
+                             if isinstance(other, ast.FunctionDef) and other.lineno < node.lineno]
                     for part in ast.walk(node.value):
-                        self.assertIsInstance(part, (ast.Constant, ast.List, ast.Tuple, ast.Dict, ast.Load), name)
+                        if isinstance(part, ast.Name):
+                            self.assertIn(part.id, above, name)
+                        elif not isinstance(part, ast.Load):
+                            self.assertIsInstance(part, (ast.Constant, ast.List, ast.Tuple, ast.Dict), name)
             for node in ast.walk(tree):
                 if isinstance(node, ast.FunctionDef):
                     self.assertEqual(node.decorator_list, [])
