@@ -144,7 +144,7 @@ class Desk:
         old, new = gate.book(), self.book(name)
         runs = LaneRuns(("break", old, new))
         keys = [key for key, state in gate.talks() if _may_break(KeyRuns(runs, key), state)]
-        return COMES_TRUE if breaks(old, new) else NEVER_TRUE, keys
+        return (COMES_TRUE if breaks(old, new) else NEVER_TRUE), keys
 
 
 def _check_known(word, table):

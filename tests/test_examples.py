@@ -81,6 +81,15 @@ True
 >>> from gatewarden.machine import run_program
 >>> run_program((("byte", 0, "outer", 1), ("less", 0, 17, 2, 3), ("answer", ("drop",)), ("answer", ("accept",))), (9, 4, 17, 64, (), (7, 81), ()), (0, 17, 9, 7, 4, 81, 0, 0, 18, 1, 0))
 ('answer', ('accept',), 3)
+>>> from gatewarden.onekey import reached
+>>> reached((B,), (17, (4, 80), (9, 7)))
+[((-2,), 2), ((-1,), 1), ((0,), 0)]
+>>> from gatewarden.cases import cases_of
+>>> cases_of((("main", (((("sport", ((5, 9),)),), ("accept",)),), ("drop",)),))
+[((('sport', ((0, 4), (10, 65535))),), ('drop',)), ((('sport', ((5, 9),)),), ('accept',))]
+>>> from gatewarden.programtexts import write_program
+>>> write_program((("put", 0, 5), ("answer", ("refuse", 3))))
+'put 0 5\nanswer refuse 3'
 >>> from gatewarden.booktexts import write_book
 >>> write_book(B).split("\n")
 ['chain main', 'rule talk=2-5 accept', 'rule interface=0 talk=1 jump inner', 'default drop', 'chain inner', 'rule dport=80 accept', 'default refuse 3']

@@ -39,6 +39,11 @@ INTERFACE = {
     "trimming": "trimmed(program) longest_run(program)",
     "booktexts": "write_book(book) write_exchange(exchange) write_sight(sight) read_book(text) read_exchange(text) read_sight(text)",
     "dumps": "dumped(gate) loaded(text)",
+    "journals": "is_journal(value) first_wrong(journal) recorded(book,exchange,deeds) shortened(journal,key) blame(journal,number)",
+    "onekey": "reached(row,key) way_to(row,key,states) passing(row,key,states) passing_lengths(row,key,states,letter)",
+    "cases": "cases_of(book) flattened(book)",
+    "suites": "covered(book,histories) suite_of(book) is_suite(book,histories)",
+    "programtexts": "write_program(program) read_program(text) relinked(program,order)",
 }
 
 # For each file its classes, each with the arguments that it is made by and its methods.
@@ -49,6 +54,7 @@ CLASSES = {
                      " drop_gate(self,word) set_gate(self,word,name) receive(self,word,interface,row) forget(self,word,key)"
                      " undo(self) books(self) gates(self) book(self,word) dump(self,word) gate_book(self,word)"
                      " ask(self,names,others) move(self,word,name)"},
+    "console": {"Console": "__init__(self) enter(self,line)"},
 }
 
 
