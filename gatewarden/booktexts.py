@@ -1,6 +1,6 @@
 """Texts of books, exchanges and sights (points 15.1 to 15.4)."""
 
-from gatewarden.books import MOST_CHAINS, MOST_RULES, is_action, is_back, is_book, is_decision, is_rule
+from gatewarden.books import MOST_CHAINS, MOST_RULES, is_back, is_book, is_decision, is_rule
 from gatewarden.errors import BadLine, BadText
 from gatewarden.numerals import read_items, read_number, read_numbers, write_items
 from gatewarden.prefixes import is_exchange
@@ -12,17 +12,9 @@ from gatewarden.views import is_sight
 PAIR_GAP = ", "
 
 
-def read_action(items):
-    """The action whose text has some items between its blanks; BadText if there is none."""
-    found = read_items(items)
-    if not is_action(found):
-        raise BadText("no action has this text")
-    return found
-
-
 def read_decision(items):
     """The decision whose text has some items between its blanks; BadText if there is none."""
-    found = read_action(items)
+    found = read_items(items)
     if not is_decision(found):
         raise BadText("no decision has this text")
     return found
@@ -30,7 +22,7 @@ def read_decision(items):
 
 def read_default(items):
     """The default whose text has some items between its blanks; BadText if there is none."""
-    found = read_action(items)
+    found = read_items(items)
     return found if is_back(found) else read_decision(items)
 
 
@@ -51,7 +43,7 @@ def read_rule(items):
     for item in items[1:count]:
         field, _, text = item.partition("=")
         conditions.append((field, read_set(text)))
-    found = (tuple(conditions), read_action(items[count:]))
+    found = (tuple(conditions), read_items(items[count:]))
     if not is_rule(found):
         raise BadText("no rule has this text")
     return found

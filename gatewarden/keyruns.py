@@ -1,6 +1,5 @@
 """The runs of a watch for the packets of one key."""
 
-from gatewarden.lanes import LANE_TOPS
 from gatewarden.letters import letters_of
 
 
@@ -14,8 +13,8 @@ class KeyRuns:
         self.runs = runs
         self.kind = key[0]
         self.ends = key[1:]
-        numbers = (key[0], *key[1], *key[2])
-        lane = (*[(number, number) for number in numbers], (0, LANE_TOPS[-2]), (0, LANE_TOPS[-1]))
+        # The lengths are cut, and streams and askings have the code 0, so both need not be told.
+        lane = tuple((number, number) for number in (key[0], *key[1], *key[2]))
         _, lanes, self.forms = runs.talk_forms(lane)
         self.lengths = [part[-1] for part in lanes]
         self.letters = letters_of(self.kind)

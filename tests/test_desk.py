@@ -299,6 +299,16 @@ class Deeds(unittest.TestCase):
         self.assertEqual(desk.receive("front", 0, ROW), ("dropped", "book"))
         self.assertIn("talk 17 4 80 9 7 -1", desk.dump("front"))
 
+    def test_names_stay_through_packets(self):
+        desk = filled()
+        self.assertEqual(desk.gate_book("front"), "keeper")
+        desk.receive("front", 0, ROW)
+        self.assertEqual(desk.gate_book("front"), "keeper")
+        desk.forget("front", KEY)
+        self.assertEqual(desk.gate_book("front"), "keeper")
+        desk.undo()
+        self.assertEqual(desk.gate_book("front"), "keeper")
+
     def test_gate_book(self):
         desk = Desk()
         desk.set_book("one", ALL)

@@ -148,6 +148,14 @@ class Papers(unittest.TestCase):
         self.assertEqual(self.check(twice, ALL, source), "means")
         self.assertEqual(self.check(twice, NOTHING, source), "fails")
 
+    def test_packets_between_few_addresses(self):
+        source = random.Random(309)
+        for one, other in [((4, 5), (4, 4)), ((4, 4), (4, 5)), ((255, 256), (255, 255)), ((255, 255), (255, 256)), ((256, 256), (255, 256)),
+                           ((65534, 65535), (65534, 65534)), ((0, 0), (0, 1))]:
+            book = only(("source", (one,)), ("destination", (other,)))
+            self.assertEqual(self.check((("answer", DROP),), book, source), "fails")
+            self.assertEqual(self.check((("answer", DROP),), only(("source", ((7, 7),)), ("destination", ((7, 7),))), source), "means")
+
     def test_harm_alone_fails(self):
         source = random.Random(306)
         for program in [
@@ -303,6 +311,24 @@ class Trees(unittest.TestCase):
                     wanted = bool(wanted and plain_is_tree(program, book, changed))
                     self.assertIs(check_meaning(program, book, ("means", changed)), wanted, (part, here, other))
 
+    def test_the_length_is_cut_first(self):
+        # Where the inner head begins is not known yet, though its bytes are known to be there.
+        for book in (only(("dport", ((80, 300),))), only(("flags", ((1, 3),))), only(("code", ((300, 768),)))):
+            program = compiled(book)
+            tree = meaning_paper(program, book)[1]
+            for at in (30, 40, 1000):
+                other = cut_more(tree, LENGTH, at)
+                self.assertIs(plain_is_tree(program, book, other), True)
+                self.assertIs(check_meaning(program, book, ("means", other)), True)
+                self.assertIs(check_meaning(program, ALL, ("means", other)), False)
+
+        loading = (("special", 0, "length"), ("less", 0, 40, 4, 2), ("byte", 1, "inner", 0), ("less", 1, 9, 4, 5), ("answer", ACCEPT), ("answer", ACCEPT))
+        tree = meaning_paper(loading, ALL)[1]
+        for at in (40, 41, 500):
+            other = cut_more(tree, LENGTH, at)
+            self.assertIs(plain_is_tree(loading, ALL, other), True)
+            self.assertIs(check_meaning(loading, ALL, ("means", other)), True)
+
     def test_trees_of_other_programs(self):
         rows = self.right_trees(313, 8)
         for _, program, book, _ in rows:
@@ -317,6 +343,12 @@ class Trees(unittest.TestCase):
                      box((FIRST, (74, 74)), (KIND, (16, 18)))]:
             self.assertIs(leaf_is_taken(TO_ALL, ALL, WHOLE_TREE, part, SAME), False)
             self.assertIs(leaf_is_taken(TO_ALL, ALL, WHOLE_TREE, part, VOID), False)
+        # No packet lies in these, but they are not plain.
+        equal = [(("byte", 8), (1, 1)), (("byte", 9), (2, 2)), (("byte", 10), (1, 1)), (("byte", 11), (2, 2))]
+        for part in [box(*equal), box((FIRST, (70, 70)), *equal), box((KIND, (6, 6)), *equal), box((FIRST, (70, 70)), (KIND, (6, 7)), *equal),
+                     box((KIND, (6, 6)), (LENGTH, (12, 13))), box((FIRST, (73, 74)), (KIND, (6, 6)), (LENGTH, (12, 13)))]:
+            self.assertIs(leaf_is_taken(TO_ALL, ALL, WHOLE_TREE, part, VOID), False)
+        self.assertIs(leaf_is_taken(TO_ALL, ALL, WHOLE_TREE, box((FIRST, (70, 70)), (KIND, (6, 6)), *equal), VOID), True)
         for first in range(70, 75):
             for kind in [(0, 0), (2, 5), (7, 16), (18, 255), (6, 6), (17, 17), (1, 1), (100, 103)]:
                 part = box((FIRST, (first, first)), (KIND, kind))
@@ -543,7 +575,8 @@ class Sames(unittest.TestCase):
     def test_numbers_that_are_put(self):
         part = box((FIRST, (70, 70)), (KIND, (6, 6)))
         for number, mask, bound, wanted in [(300, 65535, 300, DROP), (300, 65535, 301, ACCEPT), (300, 255, 45, ACCEPT), (300, 255, 44, DROP),
-                                            (300, 256, 256, DROP), (300, 256, 257, ACCEPT), (65535, 65535, 65535, DROP)]:
+                                            (300, 256, 256, DROP), (300, 256, 257, ACCEPT), (65535, 65535, 65535, DROP), (256, 65535, 256, DROP),
+                                            (256, 65535, 257, ACCEPT), (512, 65535, 512, DROP), (511, 65535, 512, ACCEPT), (511, 65535, 511, DROP)]:
             program = (("put", 1, number), ("mask", 1, mask), ("less", 1, bound, 4, 3), ("answer", DROP), ("answer", ACCEPT))
             for book in (ALL, NOTHING):
                 self.check_part(program, book, part, book == (("main", (), wanted),))
